@@ -149,7 +149,7 @@ func TestP20_1Check(t *testing.T) {
 		}
 	}
 	for size := range 4 {
-		bodies(size, func(list []api.Step) { visit(api.Flat{Vars: vars(), Body: list}) })
+		kit().Bodies(size, func(list []api.Step) { visit(api.Flat{Vars: vars(), Body: list}) })
 	}
 	g := newGenerator(2013)
 	for range 100 {

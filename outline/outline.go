@@ -1,4 +1,5 @@
-// Package outline has what several layers ask of flat programs: their steps by their numbers, and the variables of terms.
+// Package outline has what several layers ask of flat programs: their steps by their numbers, the variables of terms, and what
+// takes always the same time.
 package outline
 
 import (

@@ -6,7 +6,6 @@ import (
 
 	"keyhole/api"
 	"keyhole/cfg"
-	"keyhole/flat"
 	"keyhole/outline"
 )
 
@@ -89,35 +88,12 @@ func (c collector) releases() {
 
 // time adds the dependences of the running time.
 func (c collector) time() {
-	if isSettled(c.program) {
+	if outline.IsSettled(c.program) {
 		return
 	}
 	for at, s := range c.places {
-		if !hasOneTime(s.Step) {
+		if !outline.HasOneTime(s.Step) {
 			c.add(at, c.start(len(c.program.Vars)), api.DepControl)
 		}
 	}
-}
-
-// isSettled reports whether each run ends at the same time: at the first bound of the Settle at the end.
-func isSettled(f api.Flat) bool {
-	last := len(f.Body) - 1
-	if last < 0 || f.Body[last].Do != api.Settle {
-		return false
-	}
-	_, _, most, _ := flat.Bounds(f)
-	return most <= f.Body[last].Bounds[0]
-}
-
-// hasOneTime reports whether a step takes the same time whatever the value of its term is.
-func hasOneTime(s api.Step) bool {
-	low, high := flat.Span(s.Then)
-	switch s.Do {
-	case api.If:
-		otherLow, otherHigh := flat.Span(s.Else)
-		return low == high && low == otherLow && low == otherHigh
-	case api.Loop:
-		return low == high && s.Term.Op == api.OpLit
-	}
-	return true
 }

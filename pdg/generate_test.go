@@ -2,42 +2,26 @@ package pdg_test
 
 import (
 	"math/rand"
-	"slices"
 	"testing"
 
 	"keyhole/api"
 	"keyhole/flat"
+	"keyhole/sample"
 )
 
-// lit, ref and op make terms.
-func lit(n int) api.Term { return api.Term{N: n} }
-func ref(i int) api.Term { return api.Term{Op: api.OpRef, N: i} }
-func op(o api.Op, kids ...api.Term) api.Term {
-	return api.Term{Op: o, Kids: kids}
-}
+var (
+	lit, ref, op  = sample.Lit, sample.Ref, sample.Op
+	set, output   = sample.Set, sample.Output
+	release, test = sample.Release, sample.If
+)
 
-// set, output, release, test and loop make steps.
-func set(v int, t api.Term) api.Step { return api.Step{Do: api.Assign, Var: v, Term: t} }
-func output(t api.Term) api.Step     { return api.Step{Do: api.Output, Term: t} }
-func release(v, h int) api.Step      { return api.Step{Do: api.Release, Var: v, N: h} }
-func test(t api.Term, then, other []api.Step) api.Step {
-	return api.Step{Do: api.If, Term: t, Then: then, Else: other}
-}
-func loop(n int, t api.Term, then []api.Step) api.Step {
-	return api.Step{Do: api.Loop, N: n, Term: t, Then: then}
-}
+func loop(n int, t api.Term, then []api.Step) api.Step { return sample.Loop(n, t, then...) }
 
-// vars are inputs of each kind between locals.
-func vars() []api.Var {
-	return []api.Var{
-		{Name: "a", Low: -1, High: 3, Init: 2}, {Name: "s", Kind: api.Secret, High: 2}, {Name: "b", High: 3}, {Name: "p", Kind: api.Public, Low: 1, High: 2},
-		{Name: "c", Low: -4, High: 2, Init: -1}, {Name: "r", Kind: api.Random, High: 1}, {Name: "t", Kind: api.Secret, Low: -2, High: 1},
-	}
-}
+var vars, allInputs = sample.Vars, sample.AllInputs
 
 var (
-	locals = []int{0, 2, 4}
-	inputs = []int{1, 3, 5, 6}
+	locals = sample.Locals()
+	inputs = sample.Inputs()
 )
 
 func hatches() []api.Hatch {
@@ -111,43 +95,12 @@ func (g generator) program() api.Flat {
 	}
 }
 
-// allInputs returns all values of the inputs of vars.
-func allInputs() []api.Inputs {
-	var all []api.Inputs
-	for i := range 3 * 4 * 2 * 2 {
-		all = append(all, api.Inputs{Secret: []int{i % 3, i/3%4 - 2}, Public: []int{i/12%2 + 1}, Random: []int{i / 24}})
-	}
-	return all
-}
-
-// bodies calls visit with every list of so many steps, counted with those inside.
-func bodies(size int, visit func(list []api.Step)) {
-	if size == 0 {
-		visit(nil)
-		return
-	}
-	for first := 1; first <= size; first++ {
-		shapes(first, func(s api.Step) {
-			bodies(size-first, func(rest []api.Step) { visit(slices.Concat([]api.Step{s}, rest)) })
-		})
-	}
-}
-
-// shapes calls visit with every such step that has, itself counted, so many steps.
-func shapes(size int, visit func(s api.Step)) {
-	if size == 1 {
-		for _, s := range []api.Step{set(0, op(api.OpAdd, ref(2), ref(1))), set(2, ref(0)), output(ref(0)), release(2, 0), {Do: api.Wait, Cost: 1}} {
-			visit(s)
-		}
-	}
-	bodies(size-1, func(inside []api.Step) {
-		visit(loop(2, ref(0), inside))
-		visit(loop(1, lit(1), inside))
-	})
-	for n := range size {
-		bodies(n, func(then []api.Step) {
-			bodies(size-1-n, func(other []api.Step) { visit(test(ref(2), then, other)) })
-		})
+// kit has steps of which small programs are made.
+func kit() sample.Kit {
+	return sample.Kit{
+		Single: []api.Step{set(0, op(api.OpAdd, ref(2), ref(1))), set(2, ref(0)), output(ref(0)), release(2, 0), {Do: api.Wait, Cost: 1}},
+		Loops:  []api.Step{loop(2, ref(0), nil), loop(1, lit(1), nil)},
+		Ifs:    []api.Step{test(ref(2), nil, nil)},
 	}
 }
 
@@ -156,7 +109,7 @@ func each(t *testing.T, random int, visit func(f api.Flat)) {
 	t.Helper()
 	count := 0
 	for size := range 4 {
-		bodies(size, func(list []api.Step) {
+		kit().Bodies(size, func(list []api.Step) {
 			visit(api.Flat{Vars: vars(), Hatches: hatches(), Body: list})
 			count++
 		})

@@ -2,19 +2,14 @@ package slice_test
 
 import (
 	"math/rand"
-	"slices"
 	"testing"
 
 	"keyhole/api"
 	"keyhole/flat"
+	"keyhole/sample"
 )
 
-// lit, ref and op make terms.
-func lit(n int) api.Term { return api.Term{N: n} }
-func ref(i int) api.Term { return api.Term{Op: api.OpRef, N: i} }
-func op(o api.Op, kids ...api.Term) api.Term {
-	return api.Term{Op: o, Kids: kids}
-}
+var lit, ref, op = sample.Lit, sample.Ref, sample.Op
 
 // set, output, release, test and loop make steps.
 func set(v int, t api.Term) api.Step { return api.Step{Do: api.Assign, Cost: 1, Var: v, Term: t} }
@@ -132,31 +127,12 @@ func allInputs() []api.Inputs {
 	return all
 }
 
-// lists calls visit with every list of so many steps, counted with those inside.
-func lists(size int, visit func(list []api.Step)) {
-	if size == 0 {
-		visit(nil)
-	}
-	for first := 1; first <= size; first++ {
-		heads(first, func(s api.Step) {
-			lists(size-first, func(rest []api.Step) { visit(slices.Concat([]api.Step{s}, rest)) })
-		})
-	}
-}
-
-// heads calls visit with every such step that has, itself counted, so many steps.
-func heads(size int, visit func(s api.Step)) {
-	if size == 1 {
-		visit(set(1, ref(3)))
-		visit(set(3, ref(0)))
-		visit(output(ref(1)))
-		visit(release(1, 1))
-	}
-	lists(size-1, func(inside []api.Step) { visit(loop(2, ref(3), inside)) })
-	for n := range size {
-		lists(n, func(then []api.Step) {
-			lists(size-1-n, func(other []api.Step) { visit(test(ref(1), then, other)) })
-		})
+// kit has steps of which small programs are made.
+func kit() sample.Kit {
+	return sample.Kit{
+		Single: []api.Step{set(1, ref(3)), set(3, ref(0)), output(ref(1)), release(1, 1)},
+		Loops:  []api.Step{loop(2, ref(3), nil)},
+		Ifs:    []api.Step{test(ref(1), nil, nil)},
 	}
 }
 
@@ -165,7 +141,7 @@ func each(t *testing.T, random int, visit func(f api.Flat)) {
 	t.Helper()
 	count := 0
 	for size := range 4 {
-		lists(size, func(list []api.Step) {
+		kit().Bodies(size, func(list []api.Step) {
 			visit(api.Flat{Vars: vars(), Hatches: hatches(), Body: list})
 			count++
 		})

@@ -2,20 +2,15 @@ package ssa_test
 
 import (
 	"math/rand"
-	"slices"
 	"testing"
 
 	"keyhole/api"
 	"keyhole/cfg"
 	"keyhole/flat"
+	"keyhole/sample"
 )
 
-// lit, ref and op make terms.
-func lit(n int) api.Term { return api.Term{N: n} }
-func ref(i int) api.Term { return api.Term{Op: api.OpRef, N: i} }
-func op(o api.Op, kids ...api.Term) api.Term {
-	return api.Term{Op: o, Kids: kids}
-}
+var lit, ref, op = sample.Lit, sample.Ref, sample.Op
 
 // set, output, test and loop make steps with costs that tell them apart.
 func set(v int, t api.Term) api.Step { return api.Step{Do: api.Assign, Cost: 1, Var: v, Term: t} }
@@ -27,15 +22,9 @@ func loop(n int, t api.Term, then []api.Step) api.Step {
 	return api.Step{Do: api.Loop, Cost: 100, N: n, Term: t, Then: then}
 }
 
-// vars are inputs of each kind between locals.
-func vars() []api.Var {
-	return []api.Var{
-		{Name: "a", Low: -1, High: 3, Init: 2}, {Name: "s", Kind: api.Secret, High: 2}, {Name: "b", High: 3}, {Name: "p", Kind: api.Public, Low: 1, High: 2},
-		{Name: "c", Low: -4, High: 2, Init: -1}, {Name: "r", Kind: api.Random, High: 1}, {Name: "t", Kind: api.Secret, Low: -2, High: 1},
-	}
-}
+var vars, allInputs = sample.Vars, sample.AllInputs
 
-var locals = []int{0, 2, 4}
+var locals = sample.Locals()
 
 func hatches() []api.Hatch {
 	return []api.Hatch{{Name: "h", Low: -1, High: 1, Term: op(api.OpSub, ref(1), ref(3))}, {Name: "k", High: 9, Term: op(api.OpMul, ref(6), lit(-3))}}
@@ -116,40 +105,12 @@ func (g generator) inputs() api.Inputs {
 	return allInputs()[g.Intn(len(allInputs()))]
 }
 
-// allInputs returns all values of the inputs of vars.
-func allInputs() []api.Inputs {
-	var all []api.Inputs
-	for i := range 3 * 4 * 2 * 2 {
-		all = append(all, api.Inputs{Secret: []int{i % 3, i/3%4 - 2}, Public: []int{i/12%2 + 1}, Random: []int{i / 24}})
-	}
-	return all
-}
-
-// bodies calls visit with every list of so many steps, counted with those inside, whose steps are Assigns, Outputs, Ifs and Loops.
-func bodies(size int, visit func(list []api.Step)) {
-	if size == 0 {
-		visit(nil)
-		return
-	}
-	for first := 1; first <= size; first++ {
-		shapes(first, func(s api.Step) {
-			bodies(size-first, func(rest []api.Step) { visit(slices.Concat([]api.Step{s}, rest)) })
-		})
-	}
-}
-
-// shapes calls visit with every such step that has, itself counted, so many steps.
-func shapes(size int, visit func(s api.Step)) {
-	if size == 1 {
-		visit(set(0, op(api.OpAdd, ref(0), lit(1))))
-		visit(set(2, ref(0)))
-		visit(output(ref(2)))
-	}
-	bodies(size-1, func(inside []api.Step) { visit(loop(2, ref(0), inside)) })
-	for n := range size {
-		bodies(n, func(then []api.Step) {
-			bodies(size-1-n, func(other []api.Step) { visit(test(ref(2), then, other)) })
-		})
+// kit has steps of which small programs are made.
+func kit() sample.Kit {
+	return sample.Kit{
+		Single: []api.Step{set(0, op(api.OpAdd, ref(0), lit(1))), set(2, ref(0)), output(ref(2))},
+		Loops:  []api.Step{loop(2, ref(0), nil)},
+		Ifs:    []api.Step{test(ref(2), nil, nil)},
 	}
 }
 
@@ -158,7 +119,7 @@ func each(t *testing.T, random int, visit func(f api.Flat, g api.Cfg)) {
 	t.Helper()
 	count := 0
 	for size := range 4 {
-		bodies(size, func(list []api.Step) {
+		kit().Bodies(size, func(list []api.Step) {
 			f := api.Flat{Vars: vars(), Hatches: hatches(), Body: list}
 			visit(f, graph(t, f))
 			count++
