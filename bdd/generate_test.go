@@ -11,6 +11,8 @@ import (
 
 type world = sample.World
 
+var binary = sample.Binary
+
 // function returns a random function; some are often true, some seldom.
 func function(r *rand.Rand, w world) []bool {
 	often := []int{1, 4, 8, 12, 15}[r.Intn(5)]
@@ -51,14 +53,6 @@ func ite(l []bool) bool { return l[0] && l[1] || !l[0] && l[2] }
 // leaved returns b as a diagram with the leaves 0 and 1.
 func leaved(b api.Bdd) api.Mtbdd {
 	return api.Mtbdd{Vars: b.Vars, Leaves: []int{0, 1}, Nodes: b.Nodes, Root: b.Root}
-}
-
-// binary returns a diagram with no other leaves than 0 and 1 as a binary one.
-func binary(a api.Mtbdd) api.Bdd {
-	if len(a.Nodes) == 0 {
-		return api.Bdd{Vars: a.Vars, Root: a.Leaves[a.Root]}
-	}
-	return api.Bdd{Vars: a.Vars, Nodes: a.Nodes, Root: a.Root}
 }
 
 // joined returns the diagram, of any size, of op of diagrams.

@@ -2,7 +2,6 @@ package diagram
 
 import (
 	"math/rand"
-	"slices"
 	"testing"
 
 	"keyhole/api"
@@ -26,7 +25,7 @@ func TestChooseInParts(t *testing.T) {
 		}
 		got, code := s.Diagram(w.Vars, at)
 		want := sample.Joined(func(l []int) int { return l[2-l[0]] }, c, a, b)
-		if code != api.OK || !slices.Equal(got.Nodes, want.Nodes) || !slices.Equal(got.Leaves, want.Leaves) || got.Root != want.Root {
+		if code != api.OK || !sample.IsSame(got, want) {
 			t.Fatalf("%v, %v, %v: %v, %d", c, a, b, got, code)
 		}
 	}

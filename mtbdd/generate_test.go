@@ -13,6 +13,11 @@ import (
 
 type world = sample.World
 
+var (
+	binary = sample.Binary
+	equal  = sample.IsSame
+)
+
 // function returns a random function; some have few values, some many, some great ones.
 func function(r *rand.Rand, w world) []int {
 	ranges := [][]int{{0, 1}, {-1, 0, 1, 2}, {-7, -3, -2, 0, 2, 3, 5, 6}, {-api.MaxValue, 1 - api.MaxValue, -1, 0, 1, 1 << 39, api.MaxValue}, {-1 << 20, 1 << 20, 3, 1<<20 + 1}}
@@ -55,14 +60,6 @@ func draw(w world, table []int) api.Mtbdd {
 // truth returns the diagram of a function that is true where it is 1.
 func truth(w world, table []int) api.Bdd {
 	return binary(draw(w, table))
-}
-
-// binary returns a diagram with no other leaves than 0 and 1 as a binary one.
-func binary(a api.Mtbdd) api.Bdd {
-	if len(a.Nodes) == 0 {
-		return api.Bdd{Vars: a.Vars, Root: a.Leaves[a.Root]}
-	}
-	return api.Bdd{Vars: a.Vars, Nodes: a.Nodes, Root: a.Root}
 }
 
 // each calls visit with random worlds.
@@ -137,10 +134,6 @@ func code(table []int) api.Code {
 		}
 	}
 	return api.OK
-}
-
-func equal(a, b api.Mtbdd) bool {
-	return a.Vars == b.Vars && a.Root == b.Root && slices.Equal(a.Leaves, b.Leaves) && slices.Equal(a.Nodes, b.Nodes)
 }
 
 // show tells what a diagram is if it is not the one that is wanted, or of which size if it is large.

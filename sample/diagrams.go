@@ -131,6 +131,19 @@ func follow(diagrams []api.Mtbdd, at []int, v int, value bool) []int {
 	return next
 }
 
+// Binary returns a diagram with no other leaves than 0 and 1 as a binary one.
+func Binary(a api.Mtbdd) api.Bdd {
+	if len(a.Nodes) == 0 {
+		return api.Bdd{Vars: a.Vars, Root: a.Leaves[a.Root]}
+	}
+	return api.Bdd{Vars: a.Vars, Nodes: a.Nodes, Root: a.Root}
+}
+
+// IsSame reports whether two diagrams are equal in all fields.
+func IsSame(a, b api.Mtbdd) bool {
+	return a.Vars == b.Vars && a.Root == b.Root && slices.Equal(a.Leaves, b.Leaves) && slices.Equal(a.Nodes, b.Nodes)
+}
+
 // Value returns the value of a diagram for an assignment.
 func Value(a api.Mtbdd, in []bool) int {
 	at := []int{a.Root}

@@ -12,9 +12,7 @@ import (
 // or is the diagram of the disjunction of two variables.
 var or = api.Mtbdd{Vars: 2, Leaves: []int{0, 1}, Nodes: []api.Fork{{Var: 1, Low: 0, High: 1}, {Var: 0, Low: 2, High: 1}}, Root: 3}
 
-func equal(a, b api.Mtbdd) bool {
-	return a.Vars == b.Vars && slices.Equal(a.Leaves, b.Leaves) && slices.Equal(a.Nodes, b.Nodes) && a.Root == b.Root
-}
+var equal = sample.IsSame
 
 func TestReduced(t *testing.T) {
 	if a := sample.Reduced(2, []int{0, 1}, []int{0, 1, 1, 1}); !equal(a, or) {

@@ -1,5 +1,5 @@
-// Package sample makes terms, steps, flat programs and policies for the tests of the layers that work on flat programs. It is no
-// layer, and no layer uses it.
+// Package sample makes terms, steps, flat programs, policies and diagrams for the tests of the layers that work on them, and says
+// what the models of formulas are. It is no layer, and no layer uses it.
 package sample
 
 import "keyhole/api"
