@@ -16,20 +16,25 @@ const patience = 1 << 28
 // effort is the work to make room for a variable, or for a literal of a clause.
 const effort = 10
 
+// watch is a clause that watches a literal, and another literal of that clause: while that is true, the clause need not be looked at.
+type watch struct {
+	clause, other int
+}
+
 // solver knows clauses and an assignment of some variables, which grows by decisions and by what follows from them by unit propagation.
 type solver struct {
-	clauses  [][]int // of two literals or more; the first two are watched
-	watches  [][]int // for each literal, by its place, the clauses that watch it
-	values   []int   // of each variable: its true literal, or 0
-	levels   []int   // of each variable with a value: the number of decisions up to it
-	reasons  []int   // of each variable with a value: the clause from which it follows, or none
-	trail    []int   // the true literals, in the order in which they became true
-	begins   []int   // where in the trail each decision stands
-	done     int     // so many literals of the trail have been propagated
-	least    int     // all variables before it have values
-	broken   bool    // there is a conflict without any decision
-	given    int     // so many clauses have not been learned
-	room     int     // for clauses that have been learned
+	clauses  [][]int   // of two literals or more; the first two are watched
+	watches  [][]watch // for each literal, by its place, the clauses that watch it
+	values   []int     // of each variable: its true literal, or 0
+	levels   []int     // of each variable with a value: the number of decisions up to it
+	reasons  []int     // of each variable with a value: the clause from which it follows, or none
+	trail    []int     // the true literals, in the order in which they became true
+	begins   []int     // where in the trail each decision stands
+	done     int       // so many literals of the trail have been propagated
+	least    int       // all variables before it have values
+	broken   bool      // there is a conflict without any decision
+	given    int       // so many clauses have not been learned
+	room     int       // for clauses that have been learned
 	learned  func(clause []int)
 	met      []bool // for each variable, whether a conflict has to do with it
 	work     int    // a measure of the time that has been spent
@@ -39,7 +44,7 @@ type solver struct {
 // newSolver returns a solver of clauses of the variables from 1 to vars.
 func newSolver(vars int, clauses [][]int) *solver {
 	s := &solver{
-		watches:  make([][]int, 2*vars+2),
+		watches:  make([][]watch, 2*vars+2),
 		values:   make([]int, vars+1),
 		levels:   make([]int, vars+1),
 		reasons:  make([]int, vars+1),
@@ -107,9 +112,8 @@ func (s *solver) add(clause []int) {
 func (s *solver) attach(clause []int) int {
 	n := len(s.clauses)
 	s.clauses = append(s.clauses, clause)
-	for _, lit := range clause[:2] {
-		s.watches[place(lit)] = append(s.watches[place(lit)], n)
-	}
+	s.watch(clause[0], watch{n, clause[1]})
+	s.watch(clause[1], watch{n, clause[0]})
 	return n
 }
 
@@ -157,22 +161,30 @@ func (s *solver) propagate() int {
 	return none
 }
 
+// watch lets a clause watch a literal.
+func (s *solver) watch(lit int, w watch) {
+	s.watches[place(lit)] = append(s.watches[place(lit)], w)
+}
+
 // visit goes through the clauses that watch a literal that is false now. Each of them watches another one instead, or its other watched literal must be true. It returns the number of a clause where that one is false, or none.
 func (s *solver) visit(lit int) int {
 	watching := s.watches[place(lit)]
 	s.work += len(watching)
 	stay := watching[:0]
 	conflict := none
-	for i, n := range watching {
-		clause := s.clauses[n]
+	for i, w := range watching {
+		if s.isTrue(w.other) {
+			stay = append(stay, w)
+			continue
+		}
+		n, clause := w.clause, s.clauses[w.clause]
 		if clause[0] == lit {
 			clause[0], clause[1] = clause[1], lit
 		}
-		if s.isTrue(clause[0]) || !s.move(n) {
-			stay = append(stay, n)
-		} else {
+		if !s.isTrue(clause[0]) && s.move(n) {
 			continue
 		}
+		stay = append(stay, watch{n, clause[0]})
 		if s.isFalse(clause[0]) {
 			stay = append(stay, watching[i+1:]...)
 			conflict = n
@@ -193,7 +205,7 @@ func (s *solver) move(n int) bool {
 		if !s.isFalse(clause[i]) {
 			s.work += i
 			clause[1], clause[i] = clause[i], clause[1]
-			s.watches[place(clause[1])] = append(s.watches[place(clause[1])], n)
+			s.watch(clause[1], watch{n, clause[0]})
 			return true
 		}
 	}
