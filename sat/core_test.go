@@ -7,6 +7,7 @@ import (
 
 	"keyhole/api"
 	"keyhole/cnf"
+	"keyhole/space"
 )
 
 // random returns a random formula of three literals a clause, whose variables are some of many.
@@ -36,7 +37,7 @@ func TestBothCores(t *testing.T) {
 		}
 		tested++
 		want, code := searchCore(c, patience)
-		if got := newSpace(cnf.Occur(c.Clauses)).core(c.Clauses); !slices.Equal(got, want) || code != api.OK {
+		if got := spaceCore(space.New(cnf.Occur(c.Clauses)), c.Clauses); !slices.Equal(got, want) || code != api.OK {
 			t.Fatalf("the core of %v is %v and %v, %d", c, got, want, code)
 		}
 	}

@@ -24,25 +24,12 @@ func none() api.Cnf  { return made(2, []int{-1, 2}, []int{1, -2}, []int{1, 2}, [
 
 // all calls visit with every formula of two variables.
 func all(visit func(c api.Cnf)) {
-	clauses := [][]int{{}, {-1}, {-1, -2}, {-1, 2}, {1}, {1, -2}, {1, 2}, {-2}, {2}}
-	sample.Assignments(len(clauses), func(in []bool) {
-		c := api.Cnf{Vars: 2}
-		for i, clause := range clauses {
-			if in[i] {
-				c.Clauses = append(c.Clauses, clause)
-			}
-		}
-		visit(c)
-	})
+	sample.Formulas(func(clauses [][]int) { visit(api.Cnf{Vars: 2, Clauses: clauses}) })
 }
 
 // clause returns a random clause of so many different variables.
 func clause(r *rand.Rand, vars, size int) []int {
-	var lits []int
-	for _, v := range r.Perm(vars)[:size] {
-		lits = append(lits, (v+1)*(1-2*r.Intn(2)))
-	}
-	return lits
+	return sample.Clause(r.Intn, vars, size)
 }
 
 // formula returns a random formula of at most so many variables, about as often with a model as without.
@@ -78,27 +65,6 @@ func each(t *testing.T, random, most int, visit func(r *rand.Rand, c api.Cnf)) {
 	}
 }
 
-// parity returns the clauses that say whether the number of true variables among some is odd.
-func parity(odd int, vars ...int) [][]int {
-	var clauses [][]int
-	sample.Assignments(len(vars), func(in []bool) {
-		sum := 0
-		var clause []int
-		for i, v := range in {
-			lit := vars[i]
-			if v {
-				sum++
-				lit = -lit
-			}
-			clause = append(clause, lit)
-		}
-		if sum%2 != odd {
-			clauses = append(clauses, clause)
-		}
-	})
-	return clauses
-}
-
 // parities returns a formula of random parities of so many variables each, which hold for an assignment, or mostly for none.
 func parities(r *rand.Rand, vars, count, width int, hasModel bool) api.Cnf {
 	truth := make([]int, vars+1)
@@ -116,40 +82,12 @@ func parities(r *rand.Rand, vars, count, width int, hasModel bool) api.Cnf {
 		if !hasModel {
 			odd = r.Intn(2)
 		}
-		clauses = append(clauses, parity(odd, own...)...)
+		clauses = append(clauses, sample.Parity(odd, own...)...)
 	}
 	return made(vars, clauses...)
 }
 
 // pigeons returns the formula that so many pigeons have each a hole of their own among others.
 func pigeons(count, holes int) api.Cnf {
-	in := func(p, h int) int { return p*holes + h + 1 }
-	var clauses [][]int
-	for p := range count {
-		var some []int
-		for h := range holes {
-			some = append(some, in(p, h))
-			for q := range p {
-				clauses = append(clauses, []int{-in(p, h), -in(q, h)})
-			}
-		}
-		clauses = append(clauses, some)
-	}
-	return made(count*holes, clauses...)
-}
-
-// everything returns all clauses that have all of so many variables.
-func everything(vars int) [][]int {
-	var clauses [][]int
-	sample.Assignments(vars, func(in []bool) {
-		var clause []int
-		for i, v := range in {
-			clause = append(clause, i+1)
-			if v {
-				clause[i] = -i - 1
-			}
-		}
-		clauses = append(clauses, clause)
-	})
-	return clauses
+	return made(count*holes, sample.Pigeons(count, holes)...)
 }

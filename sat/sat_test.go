@@ -135,7 +135,7 @@ func TestP31_2Hard(t *testing.T) {
 	for i := range 12 {
 		list = append(list, parities(r, 17, 15, 8, i%2 == 0), parities(r, 16, 20+i, 3, i%2 == 0))
 	}
-	list = append(list, pigeons(5, 4), pigeons(4, 4), pigeons(3, 5), made(12, everything(12)...), made(12, everything(12)[:4095]...), made(12, everything(12)[1:]...))
+	list = append(list, pigeons(5, 4), pigeons(4, 4), pigeons(3, 5), made(12, sample.Everything(12)...), made(12, sample.Everything(12)[:4095]...), made(12, sample.Everything(12)[1:]...))
 	found := 0
 	for i, c := range list {
 		want, wantFound := leastOf(c)
@@ -187,7 +187,7 @@ func TestP31_3Refute(t *testing.T) {
 // TestP31_3Hard has formulas of 24 variables at most, for which no limit may be met.
 func TestP31_3Hard(t *testing.T) {
 	r := rand.New(rand.NewSource(313))
-	list := []api.Cnf{pigeons(5, 4), pigeons(6, 4), made(11, everything(11)...), parities(r, 24, 60, 3, false), parities(r, 24, 40, 5, false), parities(r, 24, 40, 8, false)}
+	list := []api.Cnf{pigeons(5, 4), pigeons(6, 4), made(11, sample.Everything(11)...), parities(r, 24, 60, 3, false), parities(r, 24, 40, 5, false), parities(r, 24, 40, 8, false)}
 	longest := 0
 	for _, c := range list {
 		longest = max(longest, len(checkRefutation(t, c, false)))
@@ -360,15 +360,15 @@ func TestP31_5Core(t *testing.T) {
 
 // TestP31_5HardCore has formulas for which all assignments must be looked at, as searches would take too long.
 func TestP31_5HardCore(t *testing.T) {
-	if core, code := sat.Core(made(12, everything(12)...)); !slices.Equal(core, sample.Range(0, 1<<12, 1)) || code != api.OK {
+	if core, code := sat.Core(made(12, sample.Everything(12)...)); !slices.Equal(core, sample.Range(0, 1<<12, 1)) || code != api.OK {
 		t.Errorf("Core = %d clauses, %d", len(core), code)
 	}
 	// The variables are not the first ones, and there are many others. Of the parities of three pairs, each but the last one is needed.
 	var clauses [][]int
 	for i := range 10 {
-		clauses = append(clauses, parity(i%2, 3*i+50, 3*i+53)...)
+		clauses = append(clauses, sample.Parity(i%2, 3*i+50, 3*i+53)...)
 	}
-	clauses = append(clauses, parity(0, 50, 80)...)
+	clauses = append(clauses, sample.Parity(0, 50, 80)...)
 	c := made(20000, clauses...)
 	core, code := sat.Core(c)
 	if want := coreModel(c.Clauses, func(clauses [][]int) bool {
@@ -546,8 +546,8 @@ func TestP31_5LargeCore(t *testing.T) {
 			clauses = append(clauses, clause(r, 60, 3))
 		}
 		for i := range 8 {
-			clauses = append(clauses, parity(r.Intn(2), 7*i+1, 7*((i+1)%8)+1)...)
-			clauses = append(clauses, parity(r.Intn(2), 5*i+2, 5*((i+1)%8)+2)...)
+			clauses = append(clauses, sample.Parity(r.Intn(2), 7*i+1, 7*((i+1)%8)+1)...)
+			clauses = append(clauses, sample.Parity(r.Intn(2), 5*i+2, 5*((i+1)%8)+2)...)
 		}
 		c := made(60, clauses...)
 		solve := func(clauses [][]int) bool {
